@@ -1,0 +1,90 @@
+package boolexp
+
+import (
+	"iter"
+	"slices"
+
+	"pneumatic/api"
+	"pneumatic/truth"
+)
+
+// meaning has for each operation what it makes of the index of a node, and of what was made of its arguments.
+type meaning[T any] [api.Ops]func(index int, args []T) T
+
+// fold returns what a meaning makes of an expression that was checked, from its arguments to the outside.
+func fold[T any](x api.Expr, m meaning[T]) T {
+	var args []T
+	for _, a := range x.Args {
+		args = append(args, fold(a, m))
+	}
+	return m[x.Op](x.Index, args)
+}
+
+// preorder yields the nodes of an expression, behind their levels: 1 for itself, 2 for its arguments, and so on.
+func preorder(x api.Expr) iter.Seq2[int, api.Expr] {
+	return func(yield func(int, api.Expr) bool) {
+		visit(x, 1, yield)
+	}
+}
+
+// visit yields the nodes of an expression, and reports whether more of them are wanted.
+func visit(x api.Expr, level int, yield func(int, api.Expr) bool) bool {
+	if !yield(level, x) {
+		return false
+	}
+	for _, a := range x.Args {
+		if !visit(a, level+1, yield) {
+			return false
+		}
+	}
+	return true
+}
+
+// truths finds the value of an expression where the variables have some values.
+func truths(values []bool) meaning[bool] {
+	return meaning[bool]{
+		api.OpConst: func(index int, _ []bool) bool { return index == 1 },
+		api.OpVar:   func(index int, _ []bool) bool { return values[index] },
+		api.OpNot:   func(_ int, args []bool) bool { return !args[0] },
+		api.OpAnd:   func(_ int, args []bool) bool { return !slices.Contains(args, false) },
+		api.OpOr:    func(_ int, args []bool) bool { return slices.Contains(args, true) },
+	}
+}
+
+// tables finds the function of an expression of n variables.
+func tables(n int) meaning[api.Table] {
+	return meaning[api.Table]{
+		api.OpConst: func(index int, _ []api.Table) api.Table { return sure(truth.Const(n, index == 1)) },
+		api.OpVar:   func(index int, _ []api.Table) api.Table { return sure(truth.Var(n, index)) },
+		api.OpNot:   func(_ int, args []api.Table) api.Table { return sure(truth.Not(args[0])) },
+		api.OpAnd:   chained(truth.And),
+		api.OpOr:    chained(truth.Or),
+	}
+}
+
+// sure returns the table of a call that has no error, since the expression was checked.
+func sure(t api.Table, _ api.Errno) api.Table {
+	return t
+}
+
+// chained makes an operation on two tables one on several.
+func chained(operation func(a, b api.Table) (api.Table, api.Errno)) func(int, []api.Table) api.Table {
+	return func(_ int, args []api.Table) api.Table {
+		t := args[0]
+		for _, a := range args[1:] {
+			t = sure(operation(t, a))
+		}
+		return t
+	}
+}
+
+// copies makes an expression anew, in memory of its own.
+func copies() meaning[api.Expr] {
+	var m meaning[api.Expr]
+	for op := range m {
+		m[op] = func(index int, args []api.Expr) api.Expr {
+			return api.Expr{Op: op, Index: index, Args: args}
+		}
+	}
+	return m
+}
