@@ -10,9 +10,9 @@ import (
 // simples makes the simple form of an expression.
 func simples() meaning[api.Expr] {
 	m := copies()
-	m[api.OpNot] = func(_ int, args []api.Expr) api.Expr { return opposite(args[0]) }
-	m[api.OpAnd] = func(_ int, args []api.Expr) api.Expr { return join(api.OpAnd, 1, args) }
-	m[api.OpOr] = func(_ int, args []api.Expr) api.Expr { return join(api.OpOr, 0, args) }
+	m[api.OpNot].join = func(args []api.Expr) api.Expr { return opposite(args[0]) }
+	m[api.OpAnd].join = func(args []api.Expr) api.Expr { return join(api.OpAnd, 1, args) }
+	m[api.OpOr].join = func(args []api.Expr) api.Expr { return join(api.OpOr, 0, args) }
 	return m
 }
 

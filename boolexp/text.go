@@ -31,17 +31,17 @@ func Format(x api.Expr, names []string) (string, api.Errno) {
 // texts writes an expression with names for its variables.
 func texts(names []string) meaning[written] {
 	return meaning[written]{
-		api.OpConst: func(index int, _ []written) written { return written{api.OpConst, "01"[index : index+1]} },
-		api.OpVar:   func(index int, _ []written) written { return written{api.OpVar, names[index]} },
-		api.OpNot: func(_ int, args []written) written {
+		api.OpConst: {leaf: func(index int) written { return written{api.OpConst, "01"[index : index+1]} }},
+		api.OpVar:   {leaf: func(index int) written { return written{api.OpVar, names[index]} }},
+		api.OpNot: {join: func(args []written) written {
 			return written{api.OpNot, "!" + args[0].within(api.OpAnd, api.OpOr)}
-		},
-		api.OpAnd: func(_ int, args []written) written {
+		}},
+		api.OpAnd: {join: func(args []written) written {
 			return written{api.OpAnd, joined(args, " & ", api.OpAnd, api.OpOr)}
-		},
-		api.OpOr: func(_ int, args []written) written {
+		}},
+		api.OpOr: {join: func(args []written) written {
 			return written{api.OpOr, joined(args, " | ", api.OpOr)}
-		},
+		}},
 	}
 }
 
