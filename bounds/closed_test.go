@@ -126,21 +126,22 @@ func TestClosedBoundsByDefinition(t *testing.T) {
 // testConflict checks the errors for bounds that contradict.
 func testConflict(t *testing.T, b api.Bounds) {
 	t.Helper()
+	what := name("conflict", b)
 	times, e := bounds.Witness(b)
-	same(t, name("Witness", b), len(times), 0)
-	same(t, name("error of Witness", b), e, api.ErrConflict)
+	same(t, what, len(times), 0)
+	same(t, what, e, api.ErrConflict)
 	for i := range b.N + 1 {
 		low, high, e := bounds.Extent(b, i)
-		same(t, name("Extent", b, i), [2]int{low, high}, [2]int{})
-		same(t, name("error of Extent", b, i), e, api.ErrConflict)
+		same(t, what, [2]int{low, high}, [2]int{})
+		same(t, what, e, api.ErrConflict)
 		expected := api.ErrConflict
 		if i == 0 {
 			expected = api.ErrRange
 		}
 		c, e := bounds.Forget(b, i)
-		expect(t, name("Forget", b, i), c, e, api.Bounds{}, expected)
+		expect(t, what, c, e, api.Bounds{}, expected)
 		c, e = bounds.Shift(b, i)
-		expect(t, name("Shift", b, i), c, e, api.Bounds{}, expected)
+		expect(t, what, c, e, api.Bounds{}, expected)
 	}
 }
 

@@ -43,23 +43,24 @@ func isAtMost(a, b api.Bounds) bool {
 
 func TestBoundsAreClosedOnce(t *testing.T) {
 	for _, b := range many() {
+		what := name("Close", b)
 		closed, cycle, ok, e := bounds.Close(b)
-		same(t, name("error of Close", b), e, api.OK)
+		same(t, "error of "+what, e, api.OK)
 		if !ok {
 			proves, e := bounds.Verify(b, cycle)
-			same(t, name("Verify", b, cycle...), proves, true)
-			same(t, name("error of Verify", b, cycle...), e, api.OK)
+			same(t, "Verify behind "+what, proves, true)
+			same(t, "error of Verify behind "+what, e, api.OK)
 			testConflict(t, b)
 			continue
 		}
-		same(t, name("Close", b), isAtMost(closed, b), true)
+		same(t, what, isAtMost(closed, b), true)
 		again, _, ok, e := bounds.Close(closed)
-		expect(t, name("Close", closed), again, e, closed, api.OK)
-		same(t, name("Close", closed), ok, true)
+		expect(t, what+" twice", again, e, closed, api.OK)
+		same(t, what+" twice", ok, true)
 		for _, x := range [][2]api.Bounds{{b, closed}, {closed, b}} {
 			leq, e := bounds.Leq(x[0], x[1])
-			same(t, name("Leq", x[0]), leq, true)
-			same(t, name("error of Leq", x[0]), e, api.OK)
+			same(t, "Leq behind "+what, leq, true)
+			same(t, "error of Leq behind "+what, e, api.OK)
 		}
 	}
 }
