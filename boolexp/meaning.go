@@ -1,7 +1,6 @@
 package boolexp
 
 import (
-	"iter"
 	"slices"
 
 	"pneumatic/api"
@@ -27,26 +26,6 @@ func fold[T any](x api.Expr, m meaning[T]) T {
 		args = append(args, fold(a, m))
 	}
 	return m[x.Op].join(args)
-}
-
-// preorder yields the nodes of an expression, behind their levels: 1 for itself, 2 for its arguments, and so on.
-func preorder(x api.Expr) iter.Seq2[int, api.Expr] {
-	return func(yield func(int, api.Expr) bool) {
-		visit(x, 1, yield)
-	}
-}
-
-// visit yields the nodes of an expression, and reports whether more of them are wanted.
-func visit(x api.Expr, level int, yield func(int, api.Expr) bool) bool {
-	if !yield(level, x) {
-		return false
-	}
-	for _, a := range x.Args {
-		if !visit(a, level+1, yield) {
-			return false
-		}
-	}
-	return true
 }
 
 // truths finds the value of an expression where the variables have some values.
